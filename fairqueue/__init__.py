@@ -1,0 +1,1 @@
+"""Fairqueue: a line shared by weights, packet by packet."""

@@ -1,0 +1,62 @@
+"""The interface as it is listed, and the outer form of the package."""
+
+import ast
+import inspect
+import unittest
+from pathlib import Path
+
+from fairqueue import errors, flows, texts
+from tests.support import ERRORS_WITH_THING
+
+PACKAGE = Path(__file__).parent.parent / "fairqueue"
+LISTED = {
+    (flows, "is_weights"): ["thing"],
+    (flows, "is_arrivals"): ["weights", "thing"],
+    (flows, "share"): ["weights", "flow"],
+    (flows, "longest"): ["weights", "arrivals"],
+    (flows, "own_longest"): ["weights", "arrivals", "flow"],
+    (texts, "written"): ["weights", "arrivals"],
+    (texts, "read"): ["text"],
+}
+
+
+class TestInterface(unittest.TestCase):
+    def test_functions_have_the_listed_parameters(self):
+        for (module, name), parameters in LISTED.items():
+            with self.subTest(name):
+                found = inspect.signature(getattr(module, name)).parameters
+                self.assertEqual(list(found), parameters)
+
+    def test_each_is_defined_in_its_file(self):
+        listed = list(LISTED) + [(errors, name) for name in ERRORS_WITH_THING + ("BadText", "FairError")]
+        for module, name in listed:
+            with self.subTest(name):
+                tree = ast.parse(inspect.getsource(module))
+                own = [each.name for each in tree.body if isinstance(each, (ast.FunctionDef, ast.ClassDef))]
+                self.assertIn(name, own)
+
+
+class TestForm(unittest.TestCase):
+    def test_the_folder_holds_python_files_only(self):
+        names = [path.name for path in PACKAGE.iterdir() if path.name != "__pycache__"]
+        self.assertIn("__init__.py", names)
+        self.assertEqual([name for name in names if not name.endswith(".py")], [])
+
+    def test_sizes_and_signs(self):
+        for path in sorted(PACKAGE.glob("*.py")):
+            text = path.read_bytes().decode("utf-8")
+            with self.subTest(path.name):
+                self.assertLess(len(text.split("\n")), 400)
+                self.assertLessEqual(max([len(line) for line in text.split("\n")]), 120)
+                self.assertEqual([sign for sign in text if sign != "\n" and not " " <= sign <= "~"], [])
+
+    def test_functions_are_short(self):
+        for path in sorted(PACKAGE.glob("*.py")):
+            for each in ast.walk(ast.parse(path.read_text())):
+                if isinstance(each, ast.FunctionDef):
+                    with self.subTest(path.name, function=each.name):
+                        self.assertLessEqual(each.end_lineno - each.lineno + 1, 40)
+
+
+if __name__ == "__main__":
+    unittest.main()
