@@ -1,6 +1,9 @@
-"""What the tests share: values of many kinds, and calls that must raise."""
+"""What the tests share: values of many kinds, calls that must raise, and a reckoning of the ideal line."""
 
 import copy
+import math
+import random
+from fractions import Fraction
 
 from fairqueue import errors
 
@@ -167,3 +170,244 @@ def unchanged(call, *values):
 def same(left, right):
     """Whether two values are equal in their kinds too, so that 1 is not True."""
     return repr(left) == repr(right)
+
+
+# None of these is a fraction from 0 on; each has one thing wrong.
+NOT_FRACTIONS = STRANGE + (
+    0,
+    1,
+    2,
+    (),
+    (1,),
+    (1, 1, 1),
+    (2, 1, 1),
+    (2, 2),
+    (2, 4),
+    (6, 4),
+    (0, 2),
+    (0, 7),
+    (10**140, 10**139),
+    (0, 0),
+    (1, 0),
+    (5, 0),
+    (1, -1),
+    (0, -1),
+    (-1, -1),
+    (3, -2),
+    (-1, 1),
+    (-1, 2),
+    (-BIG, 1),
+    (-(10**140), 1),
+    [1, 1],
+    [0, 1],
+    [1, 2],
+    "12",
+    ("1", 2),
+    (1, "2"),
+    (True, 1),
+    (False, 1),
+    (1, True),
+    (0, True),
+    (3, True),
+    (True, True),
+    (True, 2),
+    (None, 1),
+    (1, None),
+    ((1,), 2),
+    (1, (2,)),
+    ([1], 2),
+    {1: 1, 2: 2},
+    ((1, 2),),
+    ((1, 2), (1, 2)),
+)
+
+FRACTIONS = ((0, 1), (1, 1), (1, 2), (7, 3), (9, 1), (10**140, 1), (1, 10**140), (10**140, 10**140 - 1))
+
+# The schedules of the document's examples, for TWO and SOME.
+FAIR = ((0, 0), (1, 2), (2, 4))
+SLOW = ((0, 0), (2, 3), (1, 5))
+
+# None of these is a schedule of SOME for TWO; each has one thing wrong.
+NOT_SCHEDULES = STRANGE + (
+    (),
+    0,
+    1,
+    (0, 0),
+    FAIR[:1],
+    FAIR[:2],
+    FAIR[1:],
+    FAIR[::-1],
+    FAIR + ((2, 6),),
+    FAIR + ((3, 6),),
+    FAIR + ((-1, 6),),
+    FAIR + (None,),
+    FAIR + ((),),
+    list(FAIR),
+    [list(pair) for pair in FAIR],
+    dict(FAIR),
+    (FAIR,),
+    ([0, 0], (1, 2), (2, 4)),
+    ((0, 0), (1, 2), [2, 4]),
+    ((0, 0), (1, 1), (2, 4)),
+    ((0, 0), (1, 2), (2, 3)),
+    ((0, -1), (1, 2), (2, 4)),
+    ((0, -BIG), (1, 2), (2, 4)),
+    ((2, 0), (0, 2), (1, 4)),
+    ((0, 0), (2, 0), (1, 4)),
+    ((0, 0), (0, 2), (2, 4)),
+    ((0, 0), (1, 2), (1, 4)),
+    ((0, 0), (1, 2), (3, 4)),
+    ((0, 0), (1, 2), (-1, 4)),
+    ((0, 0), (1, 2), (BIG, 4)),
+    ((0, 0), (-2, 2), (2, 4)),
+    ((1, 0), (2, 2), (3, 4)),
+    ((0, 0), (1, 2), (2,)),
+    ((0, 0), (1, 2), (2, 4, 0)),
+    ((0,), (1, 2), (2, 4)),
+    ((0, 0, 0), (1, 2), (2, 4)),
+    ((False, 0), (1, 2), (2, 4)),
+    ((0, False), (1, 2), (2, 4)),
+    ((0, 0), (True, 2), (2, 4)),
+    ((True, 2), (0, 4), (2, 6)),
+    ((0, 0), (1, True), (2, 4)),
+    ((0, 0), ("1", 2), (2, 4)),
+    ((0, 0), (1, "2"), (2, 4)),
+    ((0, 0), (1, None), (2, 4)),
+    ((0, 0), (None, 2), (2, 4)),
+    ((0, 0), ((1,), 2), (2, 4)),
+    ((0, 0), (1, (2, 1)), (2, 4)),
+    ("00", "12", "24"),
+)
+
+# Pairs of weights and arrivals: the edges that the document names.
+EDGES = (
+    (TWO, SOME),
+    (TWO, ()),
+    ((7,), ()),
+    ((1, 1, 1), ((4, 2, 3),)),
+    ((5,), ((0, 0, 3),)),
+    ((5,), ((2, 0, 3), (2, 0, 1), (3, 0, 4), (20, 0, 1))),
+    # Several packets at one moment, in no order of their flows.
+    ((2, 1, 3), ((3, 2, 4), (3, 0, 1), (3, 2, 5), (3, 1, 2), (3, 0, 6))),
+    # Idle stretches, at the beginning and between.
+    (TWO, ((5, 1, 1), (9, 0, 4), (9, 1, 1), (30, 1, 2), (31, 0, 2))),
+    # Stretches that touch: a packet arrives at the very end of all before it.
+    (TWO, ((0, 0, 2), (0, 1, 2), (4, 0, 3), (7, 1, 1))),
+    (TWO, ((1, 1, 2), (3, 1, 2), (5, 0, 1), (7, 0, 1))),
+    # One more unit of time, and they no longer touch.
+    (TWO, ((0, 0, 2), (0, 1, 2), (5, 0, 3), (9, 1, 1))),
+    # A flow ceases to wait at the very moment at which it is sent a packet.
+    ((1, 1), ((0, 0, 2), (0, 1, 4), (4, 0, 1))),
+    # A flow is idle while the line is busy, and comes back.
+    ((1, 3), ((0, 0, 30), (0, 1, 3), (20, 1, 3), (21, 0, 2), (25, 1, 1))),
+    # Flows without packets.
+    ((4, 9, 2, 11, 12), ((0, 2, 3), (1, 2, 1), (1, 3, 7))),
+    # Ties of end tags between flows and within one.
+    ((1, 1, 1), ((0, 2, 2), (0, 1, 2), (0, 0, 2), (1, 0, 1), (1, 1, 1))),
+    ((2, 2, 1), ((0, 1, 4), (0, 0, 4), (0, 2, 2), (2, 1, 2), (2, 0, 2))),
+    # The greatest that the limits allow, and somewhat more.
+    ((12, 11, 10, 9, 8, 7, 6, 5), tuple([(number // 3, number % 8, 60 - number) for number in range(30)])),
+    ((13, 1) * 5, tuple([(7 * number, number * 7 % 10, number % 62 + 1) for number in range(40)])),
+    ((1, 12), ((1999, 0, 60), (2000, 1, 60), (2000, 0, 1))),
+)
+
+
+def chance_cases(seed, many, flows=4, packets=9):
+    """Pairs of weights and arrivals, always the same ones for a seed."""
+    source = random.Random(seed)
+    cases = []
+    for _ in range(many):
+        weights = tuple([source.randint(1, 5) for _ in range(source.randint(1, flows))])
+        gap, longest = source.randint(0, 6), source.randint(1, 6)
+        moment, arrivals = source.randint(0, 3), []
+        for _ in range(source.randint(0, packets)):
+            arrivals.append((moment, source.randrange(len(weights)), source.randint(1, longest)))
+            moment += source.choice((0, 0, 1, gap))
+        cases.append((weights, tuple(arrivals)))
+    return tuple(cases)
+
+
+CASES = EDGES + chance_cases(1989, 60)
+
+
+def number_of(pair):
+    """The pair as a Fraction, after a look that it is a fraction as the document wants it."""
+    if type(pair) is not tuple or [type(part) for part in pair] != [int, int]:
+        raise AssertionError(f"{pair!r} is no pair of integers")
+    if pair[1] <= 0 or math.gcd(*pair) != 1:
+        raise AssertionError(f"{pair!r} is not in lowest terms")
+    return Fraction(*pair)
+
+
+def pair_of(number):
+    """The number as a fraction of the document."""
+    return Fraction(number).numerator, Fraction(number).denominator
+
+
+class Reckoning:
+    """The ideal line from event to event: amounts that are left, not tags, and Python's own fractions."""
+
+    def __init__(self, weights, arrivals):
+        self.weights = weights
+        self.ends = [None for _ in arrivals]
+        self.clocks = [None for _ in arrivals]
+        self.states = []
+        coming, queues = list(enumerate(arrivals)), [[] for _ in weights]
+        moment, value, given = Fraction(0), Fraction(0), [Fraction(0) for _ in weights]
+        while True:
+            while coming and coming[0][1][0] == moment:
+                number, (_, flow, length) = coming.pop(0)
+                queues[flow].append([number, Fraction(length)])
+                self.clocks[number] = value
+            waiting = [flow for flow, queue in enumerate(queues) if queue]
+            self.states.append((moment, value, tuple(given), tuple(waiting)))
+            whole = sum([weights[flow] for flow in waiting])
+            events = [queues[flow][0][1] * whole / weights[flow] for flow in waiting]
+            events += [packet[0] - moment for _, packet in coming[:1]]
+            if not events:
+                return
+            step = min(events)
+            moment += step
+            value += step / whole if waiting else 0
+            for flow in waiting:
+                amount = step * weights[flow] / whole
+                given[flow] += amount
+                queues[flow][0][1] -= amount
+                if queues[flow][0][1] == 0:
+                    self.ends[queues[flow].pop(0)[0]] = moment
+
+    def at(self, moment):
+        """The pair of the clock and what each flow has been given, at the moment."""
+        begun, value, given, waiting = [state for state in self.states if state[0] <= moment][-1]
+        whole = sum([self.weights[flow] for flow in waiting])
+        if not waiting:
+            return value, given
+        amounts = list(given)
+        for flow in waiting:
+            amounts[flow] += (moment - begun) * self.weights[flow] / whole
+        return value + (moment - begun) / whole, tuple(amounts)
+
+    def events(self):
+        """The moments at which a packet arrives or has been given whole."""
+        return [state[0] for state in self.states]
+
+    def tags(self, arrivals):
+        """The pairs of tags, by the words of [3.2] and the clock of this reckoning."""
+        finals, pairs = [Fraction(0) for _ in self.weights], []
+        for (_, flow, length), value in zip(arrivals, self.clocks):
+            begin = max(value, finals[flow])
+            finals[flow] = begin + Fraction(length, self.weights[flow])
+            pairs.append((begin, finals[flow]))
+        return pairs
+
+
+def moments_of(reckoning):
+    """Moments worth a look: the events, a little before and behind them, between them, and far behind."""
+    events = sorted(set(reckoning.events()))
+    tiny = Fraction(1, 10**30)
+    moments = [Fraction(0), Fraction(1, 10**140), events[-1] + 1, events[-1] + Fraction(10**140, 7)]
+    for event in events:
+        moments += [event, event + tiny, max(event - tiny, Fraction(0))]
+    for first, second in zip(events, events[1:]):
+        moments += [(first + second) / 2, (3 * first + 4 * second) / 7]
+    return sorted(set(moments))

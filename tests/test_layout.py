@@ -5,7 +5,7 @@ import inspect
 import unittest
 from pathlib import Path
 
-from fairqueue import errors, flows, texts
+from fairqueue import clock, errors, fair, flows, ideal, schedules, texts
 from tests.support import ERRORS_WITH_THING
 
 PACKAGE = Path(__file__).parent.parent / "fairqueue"
@@ -17,6 +17,18 @@ LISTED = {
     (flows, "own_longest"): ["weights", "arrivals", "flow"],
     (texts, "written"): ["weights", "arrivals"],
     (texts, "read"): ["text"],
+    (ideal, "ideal_ends"): ["weights", "arrivals"],
+    (ideal, "ideal_given"): ["weights", "arrivals", "moment"],
+    (ideal, "busy"): ["weights", "arrivals"],
+    (clock, "clock"): ["weights", "arrivals", "moment"],
+    (clock, "tags"): ["weights", "arrivals"],
+    (clock, "moment_of"): ["weights", "arrivals", "value"],
+    (fair, "schedule"): ["weights", "arrivals"],
+    (fair, "eligible"): ["weights", "arrivals", "moment"],
+    (schedules, "is_schedule"): ["weights", "arrivals", "thing"],
+    (schedules, "is_busy"): ["weights", "arrivals", "schedule"],
+    (schedules, "ends"): ["weights", "arrivals", "schedule"],
+    (schedules, "sent"): ["weights", "arrivals", "schedule", "moment"],
 }
 
 
