@@ -1,40 +1,45 @@
 """Weights, flows and the packets that arrive for them."""
 
 from fairqueue.errors import BadArrivals, BadFlow, BadWeights
-from fairqueue.kinds import fraction, is_whole
+from fairqueue.kinds import do_not_descend, fraction, is_from_one, is_position, is_whole
 
 
 def is_weights(thing):
     """Whether any value is weights."""
     if not isinstance(thing, tuple) or len(thing) == 0:
         return False
-    return all([is_whole(weight) and weight >= 1 for weight in thing])
+    return all([is_from_one(weight) for weight in thing])
 
 
 def is_flow(weights, thing):
     """Whether any value is a flow of the weights."""
-    return is_whole(thing) and 0 <= thing < len(weights)
+    return is_position(thing, len(weights))
 
 
-def is_packet(weights, thing):
-    """Whether any value is a packet of a flow of the weights."""
+def is_flow_of_some(thing):
+    """Whether any value is a flow of some weights."""
+    return is_whole(thing) and thing >= 0
+
+
+def is_packet_of_some(thing):
+    """Whether any value is a packet of a flow of some weights."""
     if not isinstance(thing, tuple) or len(thing) != 3:
         return False
     moment, flow, length = thing
-    if not is_whole(moment) or not is_whole(length):
+    return is_whole(moment) and moment >= 0 and is_flow_of_some(flow) and is_from_one(length)
+
+
+def is_arrivals_for_some(thing):
+    """Whether any value is arrivals for some weights."""
+    if not isinstance(thing, tuple) or not all([is_packet_of_some(packet) for packet in thing]):
         return False
-    return moment >= 0 and is_flow(weights, flow) and length >= 1
+    return do_not_descend([moment for moment, _, _ in thing])
 
 
 def is_arrivals(weights, thing):
     """Whether any value is arrivals for the weights."""
     check_weights(weights)
-    if not isinstance(thing, tuple):
-        return False
-    if not all([is_packet(weights, packet) for packet in thing]):
-        return False
-    moments = [moment for moment, _, _ in thing]
-    return moments == sorted(moments)
+    return is_arrivals_for_some(thing) and all([is_flow(weights, flow) for _, flow, _ in thing])
 
 
 def check_weights(weights):
@@ -49,9 +54,21 @@ def check_arrivals(weights, arrivals):
         raise BadArrivals(arrivals)
 
 
+def check_arrivals_for_some(arrivals):
+    """Raise BadArrivals if there are no weights for which the value is arrivals."""
+    if not is_arrivals_for_some(arrivals):
+        raise BadArrivals(arrivals)
+
+
 def check_flow(weights, flow):
     """Raise BadFlow if the value is not a flow of the weights."""
     if not is_flow(weights, flow):
+        raise BadFlow(flow)
+
+
+def check_flow_of_some(flow):
+    """Raise BadFlow if the value is not a flow of any weights."""
+    if not is_flow_of_some(flow):
         raise BadFlow(flow)
 
 
@@ -68,8 +85,13 @@ def longest(weights, arrivals):
     return max([length for _, _, length in arrivals], default=0)
 
 
+def longest_of(arrivals, flow):
+    """The greatest length of the packets of the flow, 0 if there are none."""
+    return max([length for _, owner, length in arrivals if owner == flow], default=0)
+
+
 def own_longest(weights, arrivals, flow):
     """The greatest length of the packets of the flow, 0 if there are none."""
     check_arrivals(weights, arrivals)
     check_flow(weights, flow)
-    return max([length for _, owner, length in arrivals if owner == flow], default=0)
+    return longest_of(arrivals, flow)

@@ -22,17 +22,22 @@ def given_of(length, weight, tags, value):
     return length, 1
 
 
-def ideal_given(weights, arrivals, moment):
-    """The tuple of what each flow has been given until the moment, as fractions."""
-    check_arrivals(weights, arrivals)
-    check_moment(moment)
-    tags, legs = tags_and_legs(weights, arrivals)
+def given_at(weights, arrivals, tags, legs, moment):
+    """The tuple of what each flow has been given until the moment, by the tags and the legs of the clock."""
     value = clock_at(legs, moment)
     amounts = [ZERO for _ in weights]
     # A packet that arrives later has a begin tag that is not below this value, so it adds nothing.
     for (_, flow, length), own in zip(arrivals, tags):
         amounts[flow] = plus(amounts[flow], given_of(length, weights[flow], own, value))
     return tuple(amounts)
+
+
+def ideal_given(weights, arrivals, moment):
+    """The tuple of what each flow has been given until the moment, as fractions."""
+    check_arrivals(weights, arrivals)
+    check_moment(moment)
+    tags, legs = tags_and_legs(weights, arrivals)
+    return given_at(weights, arrivals, tags, legs, moment)
 
 
 def busy(weights, arrivals):

@@ -1,8 +1,8 @@
-"""Integers and fractions, and how to reckon with fractions."""
+"""Integers, fractions and the form of certificates, and how to reckon with fractions."""
 
 from math import gcd, lcm
 
-from fairqueue.errors import BadMoment
+from fairqueue.errors import BadMoment, BadNumber
 
 ZERO = (0, 1)
 
@@ -11,6 +11,32 @@ def is_whole(thing):
     """Whether any value is an integer."""
     # Python counts a bool as an int, the package does not.
     return isinstance(thing, int) and not isinstance(thing, bool)
+
+
+def is_from_one(thing):
+    """Whether any value is an integer from 1 on."""
+    return is_whole(thing) and thing >= 1
+
+
+def check_number(number):
+    """Raise BadNumber if the value is not an integer from 1 on."""
+    if not is_from_one(number):
+        raise BadNumber(number)
+
+
+def is_position(thing, many):
+    """Whether any value is the position of one of so many items."""
+    return is_whole(thing) and 0 <= thing < many
+
+
+def do_not_descend(moments):
+    """Whether no moment of the list is below the one before it."""
+    return moments == sorted(moments)
+
+
+def has_form(thing, word, many):
+    """Whether any value is a tuple of so many items, one or more, whose first one is the word."""
+    return isinstance(thing, tuple) and len(thing) == many and thing[0] == word
 
 
 def is_fraction(thing):
@@ -60,6 +86,11 @@ def over(part, whole):
     return fraction(part[0], part[1] * whole)
 
 
+def ceiling(top, bottom):
+    """The least integer that is not below top / bottom, the bottom above 0."""
+    return -(-top // bottom)
+
+
 def is_below(left, right):
     """Whether the first one of two fractions is the lesser one."""
     return left[0] * right[1] < right[0] * left[1]
@@ -76,6 +107,14 @@ def least(fractions):
     for each in fractions:
         if is_below(each, found):
             found = each
+    return found
+
+
+def greatest(fractions):
+    """The greatest one of one or more fractions."""
+    found = fractions[0]
+    for each in fractions:
+        found = greater(found, each)
     return found
 
 

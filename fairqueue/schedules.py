@@ -28,18 +28,32 @@ def are_in_turn(arrivals, pairs):
     return True
 
 
+def are_pairs(thing):
+    """Whether any value is a tuple of pairs of integers."""
+    return isinstance(thing, tuple) and all([is_pair(pair) for pair in thing])
+
+
+def is_schedule_of(arrivals, thing):
+    """Whether any value is a schedule of the arrivals, whatever the weights are."""
+    return are_pairs(thing) and has_each_once(arrivals, thing) and are_in_turn(arrivals, thing)
+
+
 def is_schedule(weights, arrivals, thing):
     """Whether any value is a schedule of the arrivals."""
     check_arrivals(weights, arrivals)
-    if not isinstance(thing, tuple) or not all([is_pair(pair) for pair in thing]):
-        return False
-    return has_each_once(arrivals, thing) and are_in_turn(arrivals, thing)
+    return is_schedule_of(arrivals, thing)
+
+
+def check_schedule_of(arrivals, schedule):
+    """Raise BadSchedule if the value is not a schedule of the arrivals."""
+    if not is_schedule_of(arrivals, schedule):
+        raise BadSchedule(schedule)
 
 
 def check_schedule(weights, arrivals, schedule):
     """Raise BadWeights, BadArrivals or BadSchedule if one of the values is not of its kind."""
-    if not is_schedule(weights, arrivals, schedule):
-        raise BadSchedule(schedule)
+    check_arrivals(weights, arrivals)
+    check_schedule_of(arrivals, schedule)
 
 
 def is_busy(weights, arrivals, schedule):
@@ -54,16 +68,19 @@ def is_busy(weights, arrivals, schedule):
     return True
 
 
-def ends(weights, arrivals, schedule):
+def ends_of(arrivals, schedule):
     """The tuple of the ends of the packets, in the order of their numbers."""
-    check_schedule(weights, arrivals, schedule)
     return tuple([start + arrivals[number][2] for number, start in sorted(schedule)])
 
 
-def sent(weights, arrivals, schedule, moment):
-    """The tuple of what the schedule has sent of each flow until the moment, as fractions."""
+def ends(weights, arrivals, schedule):
+    """The tuple of the ends of the packets, in the order of their numbers."""
     check_schedule(weights, arrivals, schedule)
-    check_moment(moment)
+    return ends_of(arrivals, schedule)
+
+
+def sent_at(weights, arrivals, schedule, moment):
+    """The tuple of what the schedule has sent of each flow until the moment, as fractions."""
     top, bottom = moment
     amounts = [0 for _ in weights]
     # Amounts are counted in parts of 1 / bottom, so that they stay integers.
@@ -71,3 +88,10 @@ def sent(weights, arrivals, schedule, moment):
         _, flow, length = arrivals[number]
         amounts[flow] += min(max(top - start * bottom, 0), length * bottom)
     return tuple([fraction(amount, bottom) for amount in amounts])
+
+
+def sent(weights, arrivals, schedule, moment):
+    """The tuple of what the schedule has sent of each flow until the moment, as fractions."""
+    check_schedule(weights, arrivals, schedule)
+    check_moment(moment)
+    return sent_at(weights, arrivals, schedule, moment)

@@ -221,6 +221,59 @@ NOT_FRACTIONS = STRANGE + (
     ((1, 2), (1, 2)),
 )
 
+# Arrivals for other weights than TWO only.
+FOR_OTHERS = (
+    ((0, 2, 2),),
+    ((0, BIG, 2),),
+    SOME + ((1, 2, 1),),
+    ((0, 2, 1),) + SOME,
+)
+# None of these is arrivals for any weights.
+NOT_ARRIVALS_FOR_SOME = tuple([thing for thing in NOT_ARRIVALS if thing not in FOR_OTHERS])
+
+# None of these is an integer from 0 on, or from 1 on.
+NOT_FLOWS_OF_SOME = tuple([thing for thing in STRANGE if thing is not BIG]) + (-2, (1,), "1", [1], {1: 1}, (0, 1))
+NOT_NUMBERS = NOT_FLOWS_OF_SOME + (0, -7, (1, 1), (7, 2), "7")
+
+# None of these is a bucket.
+NOT_BUCKETS = STRANGE + (
+    (),
+    0,
+    1,
+    (3,),
+    (3, 1, 2),
+    (3, 1),
+    (3, (1, 2), 0),
+    (0, (1, 2)),
+    (-3, (1, 2)),
+    (3, (0, 1)),
+    (3, (-1, 2)),
+    (3, (1, -2)),
+    (3, (2, 4)),
+    (3, (1, 0)),
+    (3, (0, 0)),
+    (3, (1,)),
+    (3, (1, 2, 1)),
+    (3, [1, 2]),
+    [3, (1, 2)],
+    [3, [1, 2]],
+    {3: (1, 2)},
+    (True, (1, 2)),
+    (False, (1, 2)),
+    (3, (True, 2)),
+    (3, (1, True)),
+    ("3", (1, 2)),
+    (3, "12"),
+    (3, ("1", 2)),
+    (3, (1, None)),
+    (None, (1, 2)),
+    (3, None),
+    ((3,), (1, 2)),
+    ((1, 2), 3),
+    ((3, 1), (1, 2)),
+    ((3, (1, 2)),),
+)
+
 FRACTIONS = ((0, 1), (1, 1), (1, 2), (7, 3), (9, 1), (10**140, 1), (1, 10**140), (10**140, 10**140 - 1))
 
 # The schedules of the document's examples, for TWO and SOME.
@@ -411,3 +464,148 @@ def moments_of(reckoning):
     for first, second in zip(events, events[1:]):
         moments += [(first + second) / 2, (3 * first + 4 * second) / 7]
     return sorted(set(moments))
+
+
+def in_order(arrivals, order, pauses):
+    """The schedule that starts the packets in the order, each one after the pause, as soon as it may."""
+    free, pairs = 0, []
+    for number, pause in zip(order, pauses):
+        start = max(free, arrivals[number][0]) + pause
+        pairs.append((number, start))
+        free = start + arrivals[number][2]
+    return tuple(pairs)
+
+
+def made(seed, arrivals):
+    """Schedules of the arrivals in many orders, without and with pauses."""
+    source = random.Random(seed)
+    orders = [list(range(len(arrivals))), list(range(len(arrivals)))[::-1]]
+    for _ in range(3):
+        orders.append(source.sample(range(len(arrivals)), len(arrivals)))
+    none = [0 for _ in arrivals]
+    found = [in_order(arrivals, order, none) for order in orders]
+    found += [in_order(arrivals, order, [source.choice((0, 0, 1, 7)) for _ in order]) for order in orders]
+    return found
+
+
+def sent_until(weights, arrivals, pairs, moment):
+    """What the pairs (number, start) have sent of each flow until the moment, by the words of [5.2]."""
+    amounts = [Fraction(0) for _ in weights]
+    for number, start in pairs:
+        _, flow, length = arrivals[number]
+        if start + length <= moment:
+            amounts[flow] += length
+        elif start <= moment:
+            amounts[flow] += moment - start
+    return amounts
+
+
+class Distance:
+    """How far a schedule is from the ideal line of the reckoning, at all moments worth a look."""
+
+    def __init__(self, weights, arrivals, pairs):
+        self.reckoning = Reckoning(weights, arrivals)
+        self.weights, self.arrivals, self.pairs = weights, arrivals, pairs
+        ends = {number: start + arrivals[number][2] for number, start in pairs}
+        turns = sorted(set(self.reckoning.events() + [start for _, start in pairs] + list(ends.values()) + [0]))
+        between = [(2 * Fraction(first) + second) / 3 for first, second in zip(turns, turns[1:])]
+        self.moments = sorted([Fraction(moment) for moment in turns] + between + [Fraction(turns[-1] + 1)])
+        self.rows = [self.behind(moment) for moment in self.moments]
+        self.late = [ends[number] - due for number, due in enumerate(self.reckoning.ends)]
+
+    def behind(self, moment):
+        """What each flow is behind by at the moment."""
+        given = self.reckoning.at(moment)[1]
+        return [left - right for left, right in zip(given, sent_until(self.weights, self.arrivals, self.pairs, moment))]
+
+    def extremes(self):
+        """The pair (greatest behind, greatest ahead) of each flow."""
+        flows = range(len(self.weights))
+        return [(max([row[flow] for row in self.rows]), -min([row[flow] for row in self.rows])) for flow in flows]
+
+    def limits(self, flow):
+        """The pair of what the flow may be behind and ahead by on a close line."""
+        own = max([length for _, owner, length in self.arrivals if owner == flow], default=0)
+        return self.longest(), own * (1 - Fraction(self.weights[flow], sum(self.weights)))
+
+    def longest(self):
+        """The greatest length of all packets, 0 if there are none."""
+        return max([length for _, _, length in self.arrivals], default=0)
+
+    def is_close(self):
+        """Whether the schedule is close."""
+        for flow, (behind, ahead) in enumerate(self.extremes()):
+            most_behind, most_ahead = self.limits(flow)
+            if behind > most_behind or ahead > most_ahead:
+                return False
+        return all([late <= self.longest() for late in self.late])
+
+    def is_right(self, certificate):
+        """Whether a tuple of the form of a certificate is right."""
+        word, *rest = certificate
+        if word == "close":
+            return self.is_close()
+        if word == "late":
+            return self.late[rest[0]] > self.longest()
+        flow, moment = rest
+        amount = self.behind(number_of(moment))[flow]
+        behind, ahead = self.limits(flow)
+        return amount > behind if word == "behind" else -amount > ahead
+
+
+def exchanged(arrivals, pairs):
+    """The schedules with two neighbours of the pairs exchanged, all others in their order."""
+    order = [number for number, _ in pairs]
+    none = [0 for _ in pairs]
+    found = []
+    for at in range(len(order) - 1):
+        found.append(in_order(arrivals, order[:at] + [order[at + 1], order[at]] + order[at + 2 :], none))
+    return found
+
+
+def flow_by_flow(arrivals):
+    """The schedule that sends all packets of a flow before the first one of the next."""
+    order = sorted(range(len(arrivals)), key=lambda number: (arrivals[number][1], number))
+    return in_order(arrivals, order, [0 for _ in order])
+
+
+# Near and far kinds of values that are no certificates of any kind.
+NO_CERTIFICATES = STRANGE + (
+    (),
+    0,
+    1,
+    "close",
+    "kept",
+    "in",
+    ("",),
+    ("closed",),
+    ("Close",),
+    ("clos",),
+    ("fair",),
+    (0,),
+    (0, 0),
+    (0, 0, (0, 1)),
+    ([], 0),
+    ({}, 0, 0),
+    (("close",),),
+    (["close"],),
+    ["close"],
+    ["kept"],
+    ["in"],
+    {"close": 0},
+    ("close", "close"),
+    ("close", 0),
+    ("kept", 0),
+    ("in", 0),
+    ("close", None),
+    ("late",),
+    ("behind",),
+    ("ahead",),
+    ("breaks",),
+    ("out",),
+    ("late", None),
+    ("behind", 0),
+    ("ahead", 0),
+    ("breaks", 0),
+    ("out", None),
+)

@@ -5,7 +5,7 @@ import inspect
 import unittest
 from pathlib import Path
 
-from fairqueue import clock, errors, fair, flows, ideal, schedules, texts
+from fairqueue import buckets, clock, close, errors, fair, flows, ideal, schedules, texts, waits
 from tests.support import ERRORS_WITH_THING
 
 PACKAGE = Path(__file__).parent.parent / "fairqueue"
@@ -29,6 +29,20 @@ LISTED = {
     (schedules, "is_busy"): ["weights", "arrivals", "schedule"],
     (schedules, "ends"): ["weights", "arrivals", "schedule"],
     (schedules, "sent"): ["weights", "arrivals", "schedule", "moment"],
+    (close, "extremes"): ["weights", "arrivals", "schedule"],
+    (close, "lateness"): ["weights", "arrivals", "schedule"],
+    (close, "judge_close"): ["weights", "arrivals", "schedule"],
+    (close, "close_holds"): ["weights", "arrivals", "schedule", "thing"],
+    (close, "is_close"): ["weights", "arrivals", "schedule"],
+    (buckets, "is_bucket"): ["thing"],
+    (buckets, "judge_bucket"): ["arrivals", "flow", "bucket"],
+    (buckets, "bucket_holds"): ["arrivals", "flow", "bucket", "thing"],
+    (buckets, "shaped"): ["arrivals", "flow", "bucket"],
+    (waits, "waits"): ["arrivals", "schedule"],
+    (waits, "wait_bound"): ["weights", "flow", "burst", "longest"],
+    (waits, "full_arrivals"): ["weights", "flow", "burst"],
+    (waits, "near_behind"): ["k"],
+    (waits, "full_ahead"): ["weights", "flow", "length"],
 }
 
 

@@ -1,7 +1,6 @@
 """Schedules [5.1] and what they send [5.2]."""
 
 import itertools
-import random
 import unittest
 from fractions import Fraction
 
@@ -15,33 +14,13 @@ from tests.support import (
     SLOW,
     SOME,
     TWO,
+    in_order,
+    made,
     number_of,
     pair_of,
     same,
     unchanged,
 )
-
-
-def in_order(arrivals, order, pauses):
-    """The schedule that starts the packets in the order, each one after the pause, as soon as it may."""
-    free, pairs = 0, []
-    for number, pause in zip(order, pauses):
-        start = max(free, arrivals[number][0]) + pause
-        pairs.append((number, start))
-        free = start + arrivals[number][2]
-    return tuple(pairs)
-
-
-def made(seed, arrivals):
-    """Schedules of the arrivals in many orders, without and with pauses."""
-    source = random.Random(seed)
-    orders = [list(range(len(arrivals))), list(range(len(arrivals)))[::-1]]
-    for _ in range(3):
-        orders.append(source.sample(range(len(arrivals)), len(arrivals)))
-    none = [0 for _ in arrivals]
-    found = [in_order(arrivals, order, none) for order in orders]
-    found += [in_order(arrivals, order, [source.choice((0, 0, 1, 7)) for _ in order]) for order in orders]
-    return found
 
 
 def paused(arrivals, pairs):
