@@ -2,37 +2,30 @@
 
 from fairqueue.clock import clock_at, tags_and_legs
 from fairqueue.flows import check_arrivals
-from fairqueue.kinds import check_moment, is_below, ranks
+from fairqueue.kinds import check_moment, is_below
+from fairqueue.serving import first_by_ends, served, turns_by_ends
 
 
-def eligible_at(arrivals, tags, legs, moment):
-    """The ascending list of the numbers of the packets that are eligible at the moment, started or not."""
-    value = clock_at(legs, moment)
-    numbers = []
-    for number, (whole, _, _) in enumerate(arrivals):
-        begin, _ = tags[number]
-        if not is_below(moment, (whole, 1)) and not is_below(value, begin):
-            numbers.append(number)
-    return numbers
+def arrived(arrivals, moment):
+    """The ascending list of the numbers of the packets that have arrived until the moment."""
+    return [number for number, (whole, _, _) in enumerate(arrivals) if not is_below(moment, (whole, 1))]
+
+
+def begun(tags, value, numbers):
+    """The list of those of the numbers whose packets have a begin tag that is at most the value of the clock."""
+    return [number for number in numbers if not is_below(value, tags[number][0])]
 
 
 def schedule(weights, arrivals):
     """The schedule of the fair rule, the tuple of the pairs (number, start) in the order of starts."""
     check_arrivals(weights, arrivals)
     tags, legs = tags_and_legs(weights, arrivals)
-    places = ranks([end for _, end in tags])
-    waiting = list(range(len(arrivals)))
-    pairs = []
-    free = 0
-    while waiting:
-        # Moments do not descend, so the first one that is left has the least.
-        start = max(free, arrivals[waiting[0]][0])
-        ready = [number for number in eligible_at(arrivals, tags, legs, (start, 1)) if number in waiting]
-        _, _, chosen = min([(places[number], arrivals[number][1], number) for number in ready])
-        pairs.append((chosen, start))
-        waiting.remove(chosen)
-        free = start + arrivals[chosen][2]
-    return tuple(pairs)
+    turns = turns_by_ends(arrivals, tags)
+
+    def choose(waiting, start, _):
+        return first_by_ends(turns, begun(tags, clock_at(legs, (start, 1)), waiting))
+
+    return served(arrivals, choose)
 
 
 def eligible(weights, arrivals, moment):
@@ -40,4 +33,4 @@ def eligible(weights, arrivals, moment):
     check_arrivals(weights, arrivals)
     check_moment(moment)
     tags, legs = tags_and_legs(weights, arrivals)
-    return tuple(eligible_at(arrivals, tags, legs, moment))
+    return tuple(begun(tags, clock_at(legs, moment), arrived(arrivals, moment)))

@@ -1,11 +1,11 @@
 """What the tests share: values of many kinds, calls that must raise, and a reckoning of the ideal line."""
 
-import copy
 import math
 import random
 from fractions import Fraction
 
 from fairqueue import errors
+from fairqueue.live import Line
 
 ERRORS_WITH_THING = (
     "BadWeights",
@@ -27,8 +27,19 @@ BIG = 10**40 - 1
 TWO = (2, 1)
 SOME = ((0, 0, 2), (0, 1, 2), (1, 0, 2))
 
+LINE = Line(TWO)
+LINE.arrive(0, 2)
+LINE.go(1)
+LINE.arrive(1, 1)
+
 # Values that are neither weights nor arrivals nor flows of any weights.
 STRANGE = (
+    LINE,
+    [LINE],
+    (LINE,),
+    (LINE, LINE),
+    {"line": LINE},
+    {LINE: [(LINE, {0: LINE})]},
     None,
     True,
     False,
@@ -78,6 +89,9 @@ NOT_WEIGHTS = STRANGE + (
     [1],
     ["2"],
     {2: 1, 1: 2},
+    (2, LINE),
+    (2, (LINE,)),
+    (2, {1: [LINE]}),
 )
 
 # None of these is arrivals for TWO; each has one thing wrong.
@@ -127,6 +141,11 @@ NOT_ARRIVALS = STRANGE + (
     SOME + (None,),
     SOME + ((),),
     ((0, 2, 1),) + SOME,
+    SOME + (LINE,),
+    ((LINE, 0, 2),),
+    ((0, LINE, 2),),
+    ((0, 0, LINE),),
+    ((0, 0, [LINE]),),
 )
 
 ARRIVALS = (
@@ -147,24 +166,34 @@ NOT_FLOWS = STRANGE + (2, 3, -2, (1,), "1", [1], {1: 1})
 
 def caught(call, /, *values, **named):
     """The error of the package that the call raises, after a look that it changed nothing passed."""
-    passed = (values, named)
-    before = copy.deepcopy(passed)
+    before = shown((values, named))
     try:
         result = call(*values, **named)
     except errors.FairError as error:
-        if not same(passed, before):
-            raise AssertionError(f"{call.__name__} changed what was passed: {before!r}") from error
+        if shown((values, named)) != before:
+            raise AssertionError(f"{call.__name__} changed what was passed: {before}") from error
         return error
     raise AssertionError(f"{call.__name__}{values!r}{named!r} returned {result!r}")
 
 
 def unchanged(call, *values):
     """The result of the call, after a look that it changed nothing passed."""
-    before = copy.deepcopy(values)
+    before = shown(values)
     result = call(*values)
-    if not same(values, before):
-        raise AssertionError(f"{call.__name__} changed what was passed: {before!r}")
+    if shown(values) != before:
+        raise AssertionError(f"{call.__name__} changed what was passed: {before}")
     return result
+
+
+def shown(value):
+    """The value as a text, in which each line shows which one it is and its state."""
+    if isinstance(value, Line):
+        return f"line {id(value)} with {value.state()!r}"
+    if isinstance(value, (tuple, list)):
+        return type(value).__name__ + str([shown(part) for part in value])
+    if isinstance(value, dict):
+        return "dict" + str([(shown(key), shown(part)) for key, part in value.items()])
+    return repr(value)
 
 
 def same(left, right):
@@ -219,6 +248,9 @@ NOT_FRACTIONS = STRANGE + (
     {1: 1, 2: 2},
     ((1, 2),),
     ((1, 2), (1, 2)),
+    (1, LINE),
+    (LINE, 1),
+    (1, [LINE]),
 )
 
 # Arrivals for other weights than TWO only.
@@ -272,6 +304,10 @@ NOT_BUCKETS = STRANGE + (
     ((1, 2), 3),
     ((3, 1), (1, 2)),
     ((3, (1, 2)),),
+    (LINE, (1, 2)),
+    (3, LINE),
+    (3, (1, LINE)),
+    (3, (LINE, 2)),
 )
 
 FRACTIONS = ((0, 1), (1, 1), (1, 2), (7, 3), (9, 1), (10**140, 1), (1, 10**140), (10**140, 10**140 - 1))
@@ -330,6 +366,10 @@ NOT_SCHEDULES = STRANGE + (
     ((0, 0), ((1,), 2), (2, 4)),
     ((0, 0), (1, (2, 1)), (2, 4)),
     ("00", "12", "24"),
+    ((0, 0), LINE, (2, 4)),
+    ((0, 0), (LINE, 2), (2, 4)),
+    ((0, 0), (1, LINE), (2, 4)),
+    ((0, 0), (1, 2), (2, [LINE])),
 )
 
 # Pairs of weights and arrivals: the edges that the document names.
@@ -452,6 +492,23 @@ class Reckoning:
             finals[flow] = begin + Fraction(length, self.weights[flow])
             pairs.append((begin, finals[flow]))
         return pairs
+
+
+def by_the_rule(weights, arrivals):
+    """The schedule, choice by choice as [4.2] says it, by the clock of the reckoning."""
+    reckoning = Reckoning(weights, arrivals)
+    pairs = reckoning.tags(arrivals)
+    started, free = [], 0
+    while len(started) < len(arrivals):
+        left = [number for number in range(len(arrivals)) if number not in dict(started)]
+        start = max(free, min([arrivals[number][0] for number in left]))
+        value = reckoning.at(start)[0]
+        waiting = [number for number in left if arrivals[number][0] <= start]
+        ready = [number for number in waiting if pairs[number][0] <= value]
+        chosen = sorted(ready, key=lambda number: (pairs[number][1], arrivals[number][1], number))[0]
+        started.append((chosen, start))
+        free = start + arrivals[chosen][2]
+    return tuple(started)
 
 
 def moments_of(reckoning):
@@ -608,4 +665,239 @@ NO_CERTIFICATES = STRANGE + (
     ("ahead", 0),
     ("breaks", 0),
     ("out", None),
+    ("close", LINE),
+    ("late", LINE),
+    ("out", LINE),
+    ("out", (LINE,)),
+    ("behind", LINE, (1, 1)),
+    ("behind", 0, LINE),
+    ("ahead", 0, (LINE, 1)),
+    ("breaks", 0, LINE),
+    ("breaks", [LINE], 0),
+)
+
+
+ROWS = (
+    (((2, 1), ((0, 1, 2),)),),
+    (((2, 1), ((0, 1, 2),)), ((1, 1), ())),
+    (((1,), ()),),
+    (((12,), ()), ((5, 5, 5), ((0, 2, 3), (0, 1, 1), (7, 2, 9))), ((1, 12), ((2000, 1, 60),))),
+    (((1, 1), ((0, 1, 60),) * 22),) * 4,
+    (((3, 1, 2), ((0, 1, 4), (0, 2, 4), (0, 1, 4), (1, 1, 5), (3, 2, 5))),) * 5,
+)
+SOME_PACKETS = ((), ((0, 2), (1, 2)), ((0, 1),) * 8, ((2, 3), (2, 1), (5, 6), (300, 2)))
+
+# None of these is a row.
+NOT_ROWS = STRANGE + (
+    (),
+    0,
+    TWO,
+    SOME,
+    (TWO,),
+    ((),),
+    (((), ()),),
+    (TWO, ()),
+    (TWO, ((0, 1, 2),)),
+    ((TWO, ((0, 0, 2),)),),
+    ((TWO, ((0, 1, 2), (0, 0, 2))),),
+    ((TWO, ()), TWO),
+    ((TWO, ()), None),
+    ((TWO, ()), ()),
+    ((TWO,),),
+    ((TWO, (), ()),),
+    (((), TWO),),
+    [(TWO, ())],
+    ([TWO, ()],),
+    (([2, 1], ()),),
+    ((TWO, []),),
+    ((TWO, {}),),
+    {TWO: ()},
+    (((2, 0), ()),),
+    (((2, True), ()),),
+    ((TWO, ((0, True, 2),)),),
+    ((TWO, ((0, 1, True),)),),
+    ((TWO, ((0, 2, 2),)),),
+    ((TWO, ((0, -1, 2),)),),
+    ((TWO, ((1, 1, 2), (0, 1, 2))),),
+    ((TWO, ((0, 1, 0),)),),
+    ((TWO, LINE),),
+    ((LINE, ()),),
+    ((TWO, ()), LINE),
+    ((TWO, (LINE,)),),
+)
+
+# None of these is packets of the flow 0.
+NOT_PACKETS = STRANGE + (
+    0,
+    1,
+    (0, 2),
+    ((0,),),
+    ((0, 2, 2),),
+    ((0, 0, 2),),
+    SOME,
+    ((0, 0),),
+    ((0, -1),),
+    ((-1, 2),),
+    ((1, 2), (0, 2)),
+    ((0, 2), (5, 1), (4, 1)),
+    ((0, 2), None),
+    ((0, 2), ()),
+    [(0, 2)],
+    ([0, 2],),
+    {0: 2},
+    ("02",),
+    (("0", 2),),
+    ((0, "2"),),
+    ((False, 2),),
+    ((True, 2),),
+    ((0, True),),
+    ((None, 2),),
+    ((0, None),),
+    (((0, 1), 2),),
+    ((0, (2, 1)),),
+    ((LINE, 2),),
+    ((0, LINE),),
+    ((0, 2), LINE),
+    (((0, 2),),),
+)
+
+# None of these is calls.
+NOT_CALLS = STRANGE + (
+    0,
+    1,
+    (2, 4, 8),
+    ((2, 4),),
+    ((2,),),
+    ((2, 4, 8, 1),),
+    ((0, 4, 8),),
+    ((2, 0, 8),),
+    ((2, 4, 0),),
+    ((-2, 4, 8),),
+    ((2, -4, 8),),
+    ((2, 4, -BIG),),
+    ((True, 4, 8),),
+    ((2, True, 8),),
+    ((2, 4, True),),
+    ((2, 4, False),),
+    (("2", 4, 8),),
+    ((2, None, 8),),
+    ((2, 4, (8, 1)),),
+    ([2, 4, 8],),
+    [(2, 4, 8)],
+    [[2, 4, 8]],
+    {2: (4, 8)},
+    ({0: 2, 1: 4, 2: 8},),
+    ("248",),
+    ((2, 4, 8), None),
+    ((2, 4, 8), ()),
+    ((2, 4, 8), (1, 1)),
+    ((2, 4, 8), [1, 1, 5]),
+    (((2, 4, 8),),),
+    ((LINE, 4, 8),),
+    ((2, LINE, 8),),
+    ((2, 4, LINE),),
+    ((2, 4, 8), LINE),
+    ((2, 4, [LINE]),),
+)
+
+RULES = ("fair", "ends", "first", "turns")
+NOT_RULES = STRANGE + (
+    (),
+    0,
+    1,
+    "Fair",
+    "fair ",
+    " fair",
+    "fair\n",
+    "FIRST",
+    "end",
+    "turn",
+    "fairends",
+    "last",
+    ("fair",),
+    ["ends"],
+    {"first": True},
+    RULES,
+    ("fair", LINE),
+    [("turns", LINE)],
+)
+
+STATES = (
+    ((1,), (), (), 0),
+    (TWO, (), (), 7),
+    (TWO, SOME, ((0, 0),), 1),
+    (TWO, SOME, ((0, 0),), 2),
+    (TWO, SOME, FAIR, 5),
+    (TWO, SOME, FAIR, 20000),
+    (TWO, SOME[:2], (), 0),
+    ((3, 1), ((4, 1, 9),), (), 4),
+    ((3, 1), ((4, 1, 9),), ((0, 4),), 5),
+)
+
+# None of these is a state; each has one thing wrong.
+NOT_STATES = STRANGE + (
+    (),
+    0,
+    TWO,
+    SOME,
+    (TWO,),
+    (TWO, SOME),
+    (TWO, SOME, ((0, 0),)),
+    (TWO, SOME, ((0, 0),), 1, 1),
+    (SOME, TWO, ((0, 0),), 1),
+    (TWO, ((0, 0),), SOME, 1),
+    (1, ((0, 0),), SOME, TWO),
+    [TWO, SOME, ((0, 0),), 1],
+    ([2, 1], SOME, ((0, 0),), 1),
+    (TWO, list(SOME), ((0, 0),), 1),
+    (TWO, SOME, [(0, 0)], 1),
+    (TWO, SOME, ([0, 0],), 1),
+    (TWO, SOME, ((0, 0),), [1]),
+    {0: TWO, 1: SOME, 2: ((0, 0),), 3: 1},
+    ((), (), (), 0),
+    ((0,), (), (), 0),
+    ((2, True), (), (), 0),
+    (TWO, ((0, 2, 1),), (), 0),
+    (TWO, SOME[::-1], (), 1),
+    (TWO, None, (), 0),
+    (TWO, (), None, 0),
+    (TWO, (), {}, 0),
+    (TWO, (), [], 0),
+    (TWO, (), "", 0),
+    (TWO, (), (), -1),
+    (TWO, (), (), -BIG),
+    (TWO, (), (), None),
+    (TWO, (), (), True),
+    (TWO, (), (), False),
+    (TWO, (), (), "0"),
+    (TWO, (), (), (0, 1)),
+    (TWO, (), ((0, 0),), 3),
+    (TWO, SOME, (), 0),
+    (TWO, SOME, ((0, 0),), 0),
+    (TWO, SOME, (), 1),
+    (TWO, SOME, ((0, 0),), 3),
+    (TWO, SOME, ((0, 0), (1, 2)), 2),
+    (TWO, SOME, ((0, 0),), True),
+    (TWO, SOME, ((False, 0),), 1),
+    (TWO, SOME, ((0, False),), 1),
+    (TWO, SOME, ((0, 0), (True, 2)), 3),
+    (TWO, SOME, ((1, 0),), 1),
+    (TWO, SOME, ((0, 1),), 2),
+    (TWO, SOME, ((0, 0, 0),), 1),
+    (TWO, SOME, (0, 0), 1),
+    (TWO, SOME, ((1, 2), (0, 0)), 3),
+    (TWO, SOME, ((0, 0), (0, 0)), 1),
+    (TWO, SOME, FAIR, 4),
+    (TWO, SOME, FAIR[:2], 5),
+    (TWO, SOME, FAIR + ((3, 6),), 9),
+    (TWO, SOME, SLOW, 20),
+    (TWO, ((5, 0, 1),), (), 4),
+    (TWO, ((5, 0, 1),), (), 0),
+    (TWO, SOME, ((0, 0),), LINE),
+    (LINE, SOME, ((0, 0),), 1),
+    (TWO, LINE, (), 1),
+    (TWO, (), LINE, 1),
+    (TWO, SOME, (LINE,), 1),
+    (TWO, SOME, ((0, LINE),), 1),
+    (TWO, SOME + (LINE,), ((0, 0),), 1),
 )

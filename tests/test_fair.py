@@ -6,27 +6,21 @@ from fractions import Fraction
 from fairqueue.fair import eligible, schedule
 from fairqueue.ideal import busy
 from fairqueue.schedules import is_busy, is_schedule
-from tests.support import CASES, SOME, TWO, Reckoning, chance_cases, moments_of, pair_of, same, unchanged
+from tests.support import (
+    CASES,
+    SOME,
+    TWO,
+    Reckoning,
+    by_the_rule,
+    chance_cases,
+    moments_of,
+    pair_of,
+    same,
+    unchanged,
+)
 
 # Weights and lengths of few kinds make ties of tags, and packets at the moments of choices.
 MANY = CASES + chance_cases(1996, 150, flows=3, packets=12) + chance_cases(7, 20, flows=8, packets=30)
-
-
-def by_the_rule(weights, arrivals):
-    """The schedule, choice by choice as [4.2] says it, by the clock of the reckoning."""
-    reckoning = Reckoning(weights, arrivals)
-    pairs = reckoning.tags(arrivals)
-    started, free = [], 0
-    while len(started) < len(arrivals):
-        left = [number for number in range(len(arrivals)) if number not in dict(started)]
-        start = max(free, min([arrivals[number][0] for number in left]))
-        value = reckoning.at(start)[0]
-        waiting = [number for number in left if arrivals[number][0] <= start]
-        ready = [number for number in waiting if pairs[number][0] <= value]
-        chosen = sorted(ready, key=lambda number: (pairs[number][1], arrivals[number][1], number))[0]
-        started.append((chosen, start))
-        free = start + arrivals[chosen][2]
-    return tuple(started)
 
 
 class TestExamples(unittest.TestCase):

@@ -5,7 +5,22 @@ import inspect
 import unittest
 from pathlib import Path
 
-from fairqueue import buckets, clock, close, errors, fair, flows, ideal, schedules, texts, waits
+from fairqueue import (
+    admission,
+    buckets,
+    clock,
+    close,
+    errors,
+    fair,
+    flows,
+    ideal,
+    live,
+    rows,
+    rules,
+    schedules,
+    texts,
+    waits,
+)
 from tests.support import ERRORS_WITH_THING
 
 PACKAGE = Path(__file__).parent.parent / "fairqueue"
@@ -43,6 +58,20 @@ LISTED = {
     (waits, "full_arrivals"): ["weights", "flow", "burst"],
     (waits, "near_behind"): ["k"],
     (waits, "full_ahead"): ["weights", "flow", "length"],
+    (rows, "is_row"): ["thing"],
+    (rows, "through"): ["row", "packets"],
+    (rows, "row_bound"): ["row", "burst", "longest"],
+    (admission, "are_calls"): ["thing"],
+    (admission, "judge_calls"): ["calls", "longest"],
+    (admission, "calls_holds"): ["calls", "longest", "thing"],
+    (admission, "promises"): ["calls", "longest"],
+    (admission, "admitted"): ["calls", "longest"],
+    (rules, "schedule_by"): ["rule", "weights", "arrivals"],
+    (rules, "made_ahead"): ["n"],
+    (rules, "made_behind"): ["n"],
+    (live, "Line"): ["weights"],
+    (live, "is_state"): ["thing"],
+    (live, "continued"): ["state"],
 }
 
 
@@ -52,6 +81,13 @@ class TestInterface(unittest.TestCase):
             with self.subTest(name):
                 found = inspect.signature(getattr(module, name)).parameters
                 self.assertEqual(list(found), parameters)
+
+    def test_methods_of_a_line_have_the_listed_parameters(self):
+        listed = {"arrive": ["flow", "length"], "go": ["moment"], "now": [], "waiting": [], "state": []}
+        for name, parameters in listed.items():
+            with self.subTest(name):
+                found = inspect.signature(vars(live.Line)[name]).parameters
+                self.assertEqual(list(found), ["self"] + parameters)
 
     def test_each_is_defined_in_its_file(self):
         listed = list(LISTED) + [(errors, name) for name in ERRORS_WITH_THING + ("BadText", "FairError")]

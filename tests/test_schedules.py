@@ -19,6 +19,7 @@ from tests.support import (
     number_of,
     pair_of,
     same,
+    sent_until,
     unchanged,
 )
 
@@ -202,13 +203,7 @@ class TestSent(unittest.TestCase):
                     length = arrivals[number][2]
                     moments += [start, start + Fraction(length, 3), start + length, start + length - tiny, start + tiny]
                 for moment in sorted(set(moments)):
-                    due = [Fraction(0) for _ in weights]
-                    for number, start in pairs:
-                        _, flow, length = arrivals[number]
-                        if start + length <= moment:
-                            due[flow] += length
-                        elif start <= moment:
-                            due[flow] += moment - start
+                    due = sent_until(weights, arrivals, pairs, moment)
                     with self.subTest(weights=weights, arrivals=arrivals, pairs=pairs, moment=moment):
                         found = unchanged(sent, weights, arrivals, pairs, pair_of(moment))
                         self.assertIs(type(found), tuple)
