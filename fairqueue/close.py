@@ -19,7 +19,7 @@ from fairqueue.schedules import check_schedule, ends_of, sent_at
 def turns(arrivals, schedule):
     """The ascending list of the moments at which flows are behind or ahead by their greatest values."""
     # The line sends at the rate 1, the ideal one gives to a flow at most at this rate. So a flow does not
-    # fall behind while a packet of it is sent, and does not get ahead while none is.
+    # fall behind while a packet of it is sent, and does not get ahead while none is. Without packets 0 is left.
     starts = [start for _, start in schedule]
     moments = sorted(set([0] + starts + list(ends_of(arrivals, schedule))))
     return [(moment, 1) for moment in moments]

@@ -59,7 +59,7 @@ def is_state(thing):
     weights, arrivals, starts, now = thing
     if not is_weights(weights) or not is_arrivals(weights, arrivals) or not is_whole(now):
         return False
-    # The moments do not descend, and with no packets the last one counts as 0.
+    # Without packets now is from 0 on all the same.
     last = max([moment for moment, _, _ in arrivals], default=0)
     if now < last:
         return False
